@@ -4,7 +4,6 @@ import (
 	"bytes"
 	"cmp"
 	"math"
-	"slices"
 	"strings"
 	"testing"
 
@@ -190,8 +189,5 @@ func TestOrder(t *testing.T) {
 		if got, e := codec.Outer(codec.Inner(a)); got != a || e != api.OK {
 			t.Fatalf("%v: %v %d", a, got, e)
 		}
-	}
-	if slices.Contains(numbers, 0) == false {
-		t.Fatal("no nought among the numbers")
 	}
 }
