@@ -62,6 +62,52 @@ func TestBuild(t *testing.T) {
 	}
 }
 
+// P13.1, P13.2: places of more than one byte, and many whole keys.
+func TestGreat(t *testing.T) {
+	for _, size := range []int{20, 5000, 1200000} {
+		var keys []string
+		for i := range 40 {
+			keys = append(keys, string([]byte{byte('a' + i)})+strings.Repeat("x", size))
+		}
+		b := build(t, keys)
+		each := len(keys[0]) + len("\x00") + map[int]int{20: 1, 5000: 2, 1200000: 3}[size]
+		want := []byte{0, 0, 0, 0}
+		for _, p := range []int{16 * each, 32 * each, 3} {
+			want = append(want, byte(p>>24), byte(p>>16), byte(p>>8), byte(p))
+		}
+		if got := b[len(b)-len(want):]; !slices.Equal(got, want) {
+			t.Fatalf("size %d: %x, want %x", size, got, want)
+		}
+		for i, k := range keys {
+			if got, ok, e := block.Seek(b, k); got != k || !ok || e != api.OK {
+				t.Fatal(size, i, e)
+			}
+			if got, ok, e := block.Seek(b, k+"x"); ok != (i < 39) || ok && got != keys[i+1] || e != api.OK {
+				t.Fatal(size, i, e)
+			}
+		}
+		if got, e := block.Keys(b); e != api.OK || !slices.Equal(got, keys) {
+			t.Fatal(size, e)
+		}
+	}
+	var keys []string
+	for i := range 5000 {
+		keys = append(keys, string([]byte{byte(i >> 8), byte(i)}))
+	}
+	b := build(t, keys)
+	if !strings.HasSuffix(string(b), "\x00\x00\x01\x39") {
+		t.Fatal("how many whole ones")
+	}
+	for i := 0; i < len(keys); i += 37 {
+		if got, ok, e := block.Seek(b, keys[i]); got != keys[i] || !ok || e != api.OK {
+			t.Fatal(i, e)
+		}
+	}
+	if got, e := block.Keys(b); e != api.OK || len(got) != 5000 {
+		t.Fatal(e)
+	}
+}
+
 // P13.2.
 func TestThereAndBack(t *testing.T) {
 	for _, keys := range rows() {

@@ -64,12 +64,15 @@ func TestMake(t *testing.T) {
 	if got := bloom.Make(nil, 10); !bytes.Equal(got, []byte{0, 0, 0, 0, 0, 0, 0, 0, 6}) {
 		t.Fatalf("%x", got)
 	}
-	for _, b := range []int{-5, 0, 1, 2, 3, 9, 10, 11, 39, 40, 41, 1000} {
+	for b := -1; b <= 42; b++ {
 		for _, n := range []int{0, 1, 2, 3, 7, 8, 9, 64, 65, 100} {
 			if got := bloom.Make(names(n), b); !bytes.Equal(got, plain(names(n), b)) {
 				t.Fatalf("%d keys, %d bits: %x", n, b, got)
 			}
 		}
+	}
+	if got := bloom.Make(names(3), 1000); !bytes.Equal(got, bloom.Make(names(3), 40)) {
+		t.Error("too many bits")
 	}
 	for b, k := range map[int]byte{1: 1, 2: 1, 3: 2, 10: 6, 40: 27} {
 		got := bloom.Make(names(3), b)

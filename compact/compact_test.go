@@ -61,6 +61,10 @@ func TestPick(t *testing.T) {
 	if got, _, _ := compact.Pick(odd, 0, 0); !slices.Equal(got, []int{1, 3, 4, 5}) {
 		t.Error(got)
 	}
+	over := api.Version{Tables: []api.Table{tab(1, 3, "a", "c"), tab(2, 3, "b", "d")}}
+	if got, to, e := compact.Pick(over, 3, 0); !slices.Equal(got, []int{1}) || to != 3 || e != api.OK {
+		t.Error("of the last level no other one is taken:", got)
+	}
 	for level := range api.MaxLevel {
 		if got, to, e := compact.Pick(api.Version{Next: 1}, level, 3); len(got) != 0 || to != min(level+1, 3) || e != api.OK {
 			t.Error(level, got, to, e)
@@ -94,6 +98,11 @@ func TestCut(t *testing.T) {
 	plain := []string{"aa", "ab", "b", "", "x"}
 	if rows := compact.Cut(plain, 2); len(rows) != 3 || !slices.Equal(rows[2], []string{"b", "", "x"}) {
 		t.Errorf("%q", rows)
+	}
+	for _, split := range []int{-3, 0, 1} {
+		if rows := compact.Cut(plain, split); len(rows) != 4 || !slices.Equal(rows[2], []string{"b"}) || !slices.Equal(rows[3], []string{"", "x"}) {
+			t.Errorf("split %d: %q", split, rows)
+		}
 	}
 	rows := compact.Cut(plain, 1)
 	rows[0][0] = "changed"
@@ -210,6 +219,21 @@ func TestTakenAway(t *testing.T) {
 		}
 		if there, e := s.Get("a", 2); there || e != api.OK {
 			t.Fatal("it is back", e)
+		}
+	}
+}
+
+// P23.1: what is taken lies at the bottom, though another table has keys ahead of it.
+func TestBottom(t *testing.T) {
+	for _, other := range []string{"a", "c"} {
+		s := open(t, disk.New(1<<20), 1)
+		for _, x := range []api.Entry{{Key: other}, {Key: "b", Del: true}} {
+			s.Commit([]api.Entry{x})
+			s.Flush()
+		}
+		s.SetFloor(2)
+		if e := compact.Run(s, 0, 1); e != api.OK || len(s.Version().Tables) != 1 {
+			t.Fatal(other, e, s.Version().Tables)
 		}
 	}
 }

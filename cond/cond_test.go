@@ -2,6 +2,7 @@ package cond_test
 
 import (
 	"reflect"
+	"slices"
 	"strings"
 	"testing"
 
@@ -53,7 +54,8 @@ func TestParse(t *testing.T) {
 		{"a + b * c", of(api.IsPlus, a, of(api.IsTimes, b, c)), ""}, {"(a + b) * c", of(api.IsTimes, of(api.IsPlus, a, b), c), ""}, {"a * (b + c)", of(api.IsTimes, a, of(api.IsPlus, b, c)), ""},
 		{"a-1", of(api.IsMinus, a, num(1)), "a - 1"}, {"a - -1", of(api.IsMinus, a, num(-1)), ""}, {"a--1", of(api.IsMinus, a, num(-1)), "a - -1"}, {"a -1", of(api.IsMinus, a, num(1)), "a - 1"}, {"-1 - 1", of(api.IsMinus, num(-1), num(1)), ""},
 		{"-1*-2", of(api.IsTimes, num(-1), num(-2)), "-1 * -2"}, {"1or 2", or(num(1), num(2)), "1 or 2"}, {"1 or(2)and'x'", or(num(1), and(num(2), text("x"))), "1 or 2 and 'x'"},
-		{"'a'or'b'", or(text("a"), text("b")), "'a' or 'b'"}, {"'('", text("("), ""}, {"'not'", text("not"), ""}, {"a + b = c * a and not b", and(eq(of(api.IsPlus, a, b), of(api.IsTimes, c, a)), not(b)), ""},
+		{"'a'or'b'", or(text("a"), text("b")), "'a' or 'b'"}, {"'('", text("("), ""}, {"' ~'", text(" ~"), ""}, {strings.Repeat("(a) and ", 2*api.MaxDepth) + "a", and(slices.Repeat([]api.Cond{a}, 2*api.MaxDepth+1)...), strings.Repeat("a and ", 2*api.MaxDepth) + "a"},
+		{strings.Repeat("(a or b) and ", 2*api.MaxDepth) + "a", and(append(slices.Repeat([]api.Cond{or(a, b)}, 2*api.MaxDepth), a)...), ""}, {"'not'", text("not"), ""}, {"a + b = c * a and not b", and(eq(of(api.IsPlus, a, b), of(api.IsTimes, c, a)), not(b)), ""},
 		{strings.Repeat("(", api.MaxDepth) + "a" + strings.Repeat(")", api.MaxDepth), a, "a"},
 		{"(a) and (b) and ((c) or (a))", and(a, b, or(c, a)), "a and b and (c or a)"},
 	}

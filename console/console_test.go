@@ -1,6 +1,8 @@
 package console_test
 
 import (
+	"slices"
+	"strconv"
 	"strings"
 	"testing"
 
@@ -8,6 +10,7 @@ import (
 	"sentry/cond"
 	"sentry/console"
 	"sentry/disk"
+	"sentry/files"
 	"sentry/service"
 )
 
@@ -157,6 +160,24 @@ func TestErrors(t *testing.T) {
 	)
 	d.Fuse(0)
 	told(t, c, "write +doc:2#viewer@user:2", "error 13", "write", "error 13", "tidy 1 0 0", "error 13", "floor 1", "error 13", "read * 1", "doc:1#viewer@user:2", "head", "head 2 floor 0")
+}
+
+// P40.1: numbers of more than one digit; which table is tidied.
+func TestNumbers(t *testing.T) {
+	c, _, d := open(t, 100)
+	for i := range 12 {
+		c.Script("write +doc:" + strconv.Itoa(i) + "#viewer@user:1\ntidy 1 0 0")
+	}
+	told(t, c, "write -doc:0#viewer@user:1", "ok 13", "head", "head 13 floor 0", "floor 11", "ok 11", "head", "head 13 floor 11", "changes 11 head", "12 +doc:11#viewer@user:1; 13 -doc:0#viewer@user:1")
+	before, _, _ := files.Load(d)
+	told(t, c, "tidy 2 0 3", "ok")
+	after, _, _ := files.Load(d)
+	for i, x := range before.Tables {
+		stays := slices.ContainsFunc(after.Tables, func(y api.Table) bool { return x.Num == y.Num })
+		if stays != (i != 3) {
+			t.Errorf("table %d stays: %t", i, stays)
+		}
+	}
 }
 
 // P40.1: scripts.

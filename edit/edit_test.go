@@ -73,7 +73,7 @@ func TestCheck(t *testing.T) {
 		}
 	}
 	v := sample()
-	v.Tables[0].Last, v.Tables[3].Size = "a", huge-1
+	v.Tables[0].Last, v.Tables[3].Size, v.Tables[1].Size = "a", huge-1, 1
 	if e := edit.Check(v); e != api.OK {
 		t.Error(e)
 	}

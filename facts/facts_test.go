@@ -210,6 +210,11 @@ func TestBook(t *testing.T) {
 		}
 		subs[0].Obj.ID, points[0].Rel, objs[0].ID = "x", "x", "x"
 	}
+	odd := []api.Tuple{l[1], {}, l[1], {Rel: "x"}}
+	before := slices.Clone(odd)
+	if facts.NewBook(odd); !slices.Equal(odd, before) {
+		t.Error("what was handed in is changed")
+	}
 	var none *facts.Book
 	for _, b := range []*facts.Book{none, facts.NewBook(nil), facts.NewBook([]api.Tuple{{}})} {
 		subs, e1 := b.Subs(point("doc", "1", "viewer"))

@@ -116,6 +116,12 @@ func TestLoad(t *testing.T) {
 	}
 	d = disk.New(10000)
 	put(t, d, "current", "m-7")
+	put(t, d, "m-7", sealed(t, api.Edit{Head: 1}))
+	if v, _, e := files.Load(d); e != api.OK || !equal(v, api.Version{Head: 1, Next: 1}) {
+		t.Fatal(v, e)
+	}
+	d = disk.New(10000)
+	put(t, d, "current", "m-7")
 	torn := sealed(t, api.Edit{Head: 90})
 	put(t, d, "m-7", sealed(t, edit.Whole(sample(5)))+sealed(t, api.Edit{Drop: []int{2}, Floor: 3, Head: 10, Log: 5, Next: 6})+torn[:len(torn)-1])
 	v, n, e := files.Load(d)
@@ -270,6 +276,12 @@ func TestClean(t *testing.T) {
 	d.Fuse(0)
 	all(t, files.Clean(d, sample(5), 4))
 	d.Fuse(-1)
+	put(t, d, "x", "x")
+	all(t, files.Clean(d, sample(5), 4))
+	d.Crash(nil)
+	if got := d.List(); slices.Contains(got, "x") {
+		t.Fatal("one file that was removed is back")
+	}
 	if got := files.Extra(d, api.Version{}, 0); !slices.Equal(got, strings.Fields("m-4 t-1 t-2")) {
 		t.Fatal(got)
 	}

@@ -2,6 +2,7 @@ package schema_test
 
 import (
 	"reflect"
+	"slices"
 	"strings"
 	"testing"
 
@@ -70,6 +71,7 @@ func TestRules(t *testing.T) {
 		{strings.Repeat("(", api.MaxDepth) + "a" + strings.Repeat(")", api.MaxDepth), same("a")},
 		{"(a) | (b) & ((c) | (d))", union(same("a"), both(same("b"), union(same("c"), same("d"))))},
 		{strings.Repeat("x", api.MaxName), same(strings.Repeat("x", api.MaxName))},
+		{strings.Repeat("(a) | ", 2*api.MaxDepth) + "(a)", union(slices.Repeat([]api.Rule{same("a")}, 2*api.MaxDepth+1)...)},
 	}
 	for _, c := range cases {
 		s, line, e := schema.Parse("type doc\nr = " + c.text)
@@ -189,7 +191,8 @@ func TestNoText(t *testing.T) {
 
 // P5.2.
 func TestThereAndBack(t *testing.T) {
-	rules := []api.Rule{this, owner, same("type"), via("a-", "-b"), union(this, this), both(owner, via("a", "b")), union(both(this, owner), this),
+	wide := both(slices.Repeat([]api.Rule{union(this, owner)}, 2*api.MaxDepth)...)
+	rules := []api.Rule{wide, this, owner, same("type"), via("a-", "-b"), union(this, this), both(owner, via("a", "b")), union(both(this, owner), this),
 		both(union(this, owner), union(owner, this, both(this, this))), nest(1), nest(3), nest(api.MaxDepth)}
 	for _, a := range rules {
 		for _, b := range rules {

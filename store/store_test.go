@@ -135,6 +135,18 @@ func TestFirst(t *testing.T) {
 	}
 }
 
+// P22.1: the setup's Split.
+func TestSplit(t *testing.T) {
+	for split, want := range map[int]int{-5: 1, 0: 1, 1: 1, 2: 2, 700: 700} {
+		if s := open(t, disk.New(1<<20), api.Setup{Split: split}); s.Split() != want {
+			t.Error(split, s.Split())
+		}
+	}
+	if (*store.Store)(nil).Split() < 1 {
+		t.Error("a nil store's Split is at least 1")
+	}
+}
+
 // P22.1: commits that may not be.
 func TestCommitErrors(t *testing.T) {
 	s := open(t, disk.New(1<<24), setup)
@@ -324,6 +336,22 @@ func TestReplace(t *testing.T) {
 	if !slices.Equal(keys, whole[2:]) {
 		t.Fatal(keys)
 	}
+	var each [][]string
+	for _, k := range keys {
+		each = append(each, []string{k})
+	}
+	if e := s.Replace(2, append(each, []string{codec.Inner(api.Entry{Key: "zz", Rev: 1, Del: true})}), []int{got[1].Num}); e != api.OK || len(s.Version().Tables) != len(keys)+2 {
+		t.Fatal("many rows:", e)
+	}
+	tells(t, s, history, 0)
+	nums = nil
+	for _, x := range s.Version().Tables[1:] {
+		nums = append(nums, x.Num)
+	}
+	if e := s.Replace(2, [][]string{keys}, nums); e != api.OK {
+		t.Fatal(e)
+	}
+	got = s.Version().Tables
 	if e := s.Replace(3, [][]string{keys}, []int{got[1].Num}); e != api.OK || s.Version().Tables[1].Level != 3 {
 		t.Fatal(e)
 	}

@@ -194,6 +194,16 @@ func TestThereAndBack(t *testing.T) {
 	}
 }
 
+// P14.2: a filter of more bytes than two can tell.
+func TestGreat(t *testing.T) {
+	l := keys(40000)
+	x := open(t, build(t, l, 5000, 40))
+	all, e := x.All()
+	if e != api.OK || !slices.Equal(all, l) || x.Len() != len(l) {
+		t.Fatal(e)
+	}
+}
+
 func TestStem(t *testing.T) {
 	for key, want := range map[string]string{"": "", "12345678": "", "123456789": "", "0123456789": "0", inner("ab", 3, true): "ab\x00\x01"} {
 		if got := table.Stem(key); got != want {
@@ -227,6 +237,10 @@ func TestOpen(t *testing.T) {
 	open(t, with(index))
 	open(t, with(row(entry("a", 0, at))))
 	open(t, with(row(entry("a", 0, 1), entry("b", 1, at-1))))
+	// Two frames aren't one block.
+	if row, e := open(t, with(row(entry(l[0], 0, at)))).Block(0); e != api.ErrForm || len(row) != 0 {
+		t.Error(e)
+	}
 	turn := func(i int) []byte {
 		b := slices.Clone(good)
 		b[i] ^= 1
@@ -249,6 +263,9 @@ func TestOpen(t *testing.T) {
 		{"places too great", append(slices.Clone(good[:end]), "\xff\xff\xff\xff\xff\xff\xff\xff\xff\xff\xff\xff\xff\xff\xff\xff"+eight(1)+"tbl1"...), api.ErrForm},
 		{"bytes between", append(append(slices.Clone(good[:end]), 'x'), good[end:]...), api.ErrForm},
 		{"index' length", turn(at + 3), api.ErrForm},
+		{"index' length, far too great", turn(at), api.ErrForm},
+		{"index' length, too great", turn(at + 1), api.ErrForm},
+		{"filter's length, far too great", turn(filter), api.ErrForm},
 		{"filter's length", turn(filter + 3), api.ErrForm},
 		{"index' sum", turn(at + 4), api.ErrSum},
 		{"index' key", turn(at + 8 + 4), api.ErrSum},
