@@ -4,6 +4,7 @@ import (
 	"math"
 	"slices"
 
+	"sentry/acts"
 	"sentry/api"
 	"sentry/cache"
 	"sentry/disk"
@@ -23,7 +24,7 @@ func Open(d *disk.Disk, o api.Setup) (*Store, api.Errno) {
 		cache:  cache.New(room),
 	}
 	s.fresh = fresh{skip.New(s.setup.Draws)}
-	if e := inOrder(s.load, s.begin); e != api.OK {
+	if e := acts.InOrder(s.load, s.begin); e != api.OK {
 		return nil, e
 	}
 	return s, api.OK
@@ -40,7 +41,7 @@ func (s *Store) load() api.Errno {
 		return e
 	}
 	s.version, s.manifest, s.head, s.floor = v, num, v.Head, v.Floor
-	return inOrder(s.shelve, s.replay, func() api.Errno { return files.Clean(s.disk, v, num) })
+	return acts.InOrder(s.shelve, s.replay, func() api.Errno { return files.Clean(s.disk, v, num) })
 }
 
 // shelve opens the tables that count.
@@ -107,14 +108,14 @@ func (s *Store) unused() int {
 func (s *Store) begin() api.Errno {
 	next := s.unused()
 	c := change{}
-	var steps []step
+	var steps []acts.Step
 	if s.fresh.Len() > 0 {
 		b, e := s.build(next, 0, s.fresh.All())
 		if e != api.OK {
 			return e
 		}
 		c.add(b)
-		steps = append(steps, lay(s.disk, next, b.bytes))
+		steps = append(steps, b.lay(s.disk))
 		next++
 	}
 	c.log = next
@@ -124,11 +125,11 @@ func (s *Store) begin() api.Errno {
 		return e
 	}
 	steps = append(steps,
-		begin(s.disk, c.log),
+		acts.Create(s.disk, files.Name('w', c.log)),
 		func() api.Errno { return s.start(c, v) },
 		func() api.Errno { return files.Clean(s.disk, s.version, s.manifest) },
 	)
-	return inOrder(steps...)
+	return acts.InOrder(steps...)
 }
 
 // start begins a manifest with a version, to which a change led.

@@ -3,6 +3,7 @@ package store
 import (
 	"slices"
 
+	"sentry/acts"
 	"sentry/api"
 	"sentry/disk"
 	"sentry/edit"
@@ -11,49 +12,15 @@ import (
 	"sentry/table"
 )
 
-// step is one of the things that are done one behind the other.
-type step func() api.Errno
-
-// inOrder does steps up to the first one that answers an error.
-func inOrder(steps ...step) api.Errno {
-	for _, do := range steps {
-		if e := do(); e != api.OK {
-			return e
-		}
-	}
-	return api.OK
-}
-
-// keep puts a commit's record into the log.
-func (s *Store) keep(b []byte) api.Errno {
-	name := files.Name('w', s.log)
-	return inOrder(
-		func() api.Errno { return s.disk.Append(name, b) },
-		func() api.Errno { return s.disk.Sync(name) },
-	)
-}
-
-// lay makes a table's file, and its bytes safe.
-func lay(d *disk.Disk, num int, b []byte) step {
-	name := files.Name('t', num)
-	return func() api.Errno {
-		return inOrder(
-			func() api.Errno { return d.Create(name) },
-			func() api.Errno { return d.Append(name, b) },
-			func() api.Errno { return d.Sync(name) },
-		)
-	}
-}
-
-// begin makes a log's file.
-func begin(d *disk.Disk, num int) step {
-	return func() api.Errno { return d.Create(files.Name('w', num)) }
-}
-
 // built is a table that comes: what a version says of it, and its bytes.
 type built struct {
 	table api.Table
 	bytes []byte
+}
+
+// lay makes the table's file, and its bytes safe.
+func (b built) lay(d *disk.Disk) acts.Step {
+	return acts.Lay(d, files.Name('t', b.table.Num), b.bytes)
 }
 
 // build makes a table of keys.
@@ -81,12 +48,12 @@ func (c *change) add(b built) {
 
 // install lays what comes, lets the edit count, and then removes what doesn't count any more.
 func (s *Store) install(c change, v api.Version) api.Errno {
-	var steps []step
+	var steps []acts.Step
 	for _, b := range c.tables {
-		steps = append(steps, lay(s.disk, b.table.Num, b.bytes))
+		steps = append(steps, b.lay(s.disk))
 	}
 	if c.log > 0 {
-		steps = append(steps, begin(s.disk, c.log))
+		steps = append(steps, acts.Create(s.disk, files.Name('w', c.log)))
 	}
 	if len(steps) > 0 {
 		steps = append(steps, s.disk.SyncDir)
@@ -96,7 +63,7 @@ func (s *Store) install(c change, v api.Version) api.Errno {
 		func() api.Errno { return s.turn(c, v) },
 		func() api.Errno { return files.Clean(s.disk, s.version, s.manifest) },
 	)
-	return inOrder(steps...)
+	return acts.InOrder(steps...)
 }
 
 // turn lets the version count that a change leads to.
