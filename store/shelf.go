@@ -6,6 +6,7 @@ import (
 
 	"sentry/api"
 	"sentry/cache"
+	"sentry/iter"
 	"sentry/table"
 )
 
@@ -69,4 +70,50 @@ func (x *shelf) find(key string) api.Errno {
 	}
 	x.row, wrong = x.block(i)
 	return wrong
+}
+
+// shelf is a table's shelf, with nothing at hand yet.
+func (s *Store) shelf(num int) *shelf {
+	return &shelf{num: num, table: s.tables[num], cache: s.cache}
+}
+
+// run is tables of one level, whose keys stand one table behind the other; the shelf that was asked last stays at hand.
+type run struct {
+	tables []api.Table
+	open   func(num int) *shelf
+	now    *shelf
+}
+
+// Seek is the first key that isn't less.
+func (r *run) Seek(key string) (string, bool, api.Errno) {
+	i := sort.Search(len(r.tables), func(i int) bool { return r.tables[i].Last >= key })
+	if i == len(r.tables) {
+		return "", false, api.OK
+	}
+	if num := r.tables[i].Num; r.now == nil || r.now.num != num {
+		r.now = r.open(num)
+	}
+	return r.now.Seek(key)
+}
+
+// sources are what isn't in tables, and the tables that count: those of level 0 each for itself, of another level together.
+func (s *Store) sources(counts func(t *table.Table) bool) []iter.Source {
+	l := []iter.Source{s.fresh}
+	var runs [api.MaxLevel]run
+	for _, t := range s.version.Tables {
+		switch {
+		case !counts(s.tables[t.Num]):
+		case t.Level == 0:
+			l = append(l, s.shelf(t.Num))
+		default:
+			runs[t.Level].tables = append(runs[t.Level].tables, t)
+		}
+	}
+	for i := range runs {
+		if len(runs[i].tables) > 0 {
+			runs[i].open = s.shelf
+			l = append(l, &runs[i])
+		}
+	}
+	return l
 }

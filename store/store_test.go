@@ -659,8 +659,10 @@ func TestCrashes(t *testing.T) {
 							history = append(history, more)
 						}
 						more = ""
-					} else if e != api.ErrStore || s.Floor() != floor || s.Head() != uint64(len(history)) {
+					} else if e != api.ErrStore || !s.Down() {
 						t.Fatalf("fuse %d, variant %d: %d", fuse, variant, e)
+					} else {
+						tells(t, s, history, floor)
 					}
 				}
 				if e == api.OK {
