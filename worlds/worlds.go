@@ -39,9 +39,23 @@ func Sub(text string) api.Sub {
 	return t.Sub
 }
 
+// head is how each schema begins.
+const head = `type user
+type group
+member = this
+all = member
+type folder
+parent = this
+owner = this
+viewer = this | owner | parent->viewer
+type doc
+parent = this
+owner = this
+blocked = this
+`
+
 // Texts are schemas of the same types and relations, with other rules.
 func Texts() []string {
-	head := "type user\ntype group\nmember = this\nall = member\ntype folder\nparent = this\nowner = this\nviewer = this | owner | parent->viewer\ntype doc\nparent = this\nowner = this\nblocked = this\n"
 	return []string{
 		head + "editor = this | owner\nviewer = this | editor | parent->viewer",
 		head + "editor = owner & this\nviewer = (editor | parent->viewer | this) & blocked",
@@ -85,7 +99,9 @@ func Points() []api.Point {
 // Subs are subjects of a world.
 func Subs() []api.Sub {
 	var l []api.Sub
-	for _, s := range strings.Fields("user:1 user:2 user:3 group:1 group:1#member group:2#member group:3#member group:1#all folder:1 folder:2 folder:3 doc:1 doc:1#viewer doc:2#editor folder:2#viewer") {
+	plain := "user:1 user:2 user:3 group:1 folder:1 folder:2 folder:3 doc:1"
+	sets := "group:1#member group:2#member group:3#member group:1#all doc:1#viewer doc:2#editor folder:2#viewer"
+	for _, s := range strings.Fields(plain + " " + sets) {
 		l = append(l, Sub(s))
 	}
 	return l
