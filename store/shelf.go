@@ -97,8 +97,8 @@ func (r *run) Seek(key string) (string, bool, api.Errno) {
 }
 
 // sources are what isn't in tables, and the tables that count: those of level 0 each for itself, of another level together.
-func (s *Store) sources(counts func(t *table.Table) bool) []iter.Source {
-	l := []iter.Source{s.fresh}
+func (s *Store) sources(fresh iter.Source, counts func(t *table.Table) bool) []iter.Source {
+	l := []iter.Source{fresh}
 	var runs [api.MaxLevel]run
 	for _, t := range s.version.Tables {
 		switch {
