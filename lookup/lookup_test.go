@@ -145,6 +145,109 @@ func TestSets(t *testing.T) {
 	}
 }
 
+// P30.1: a This that stands among the forms behind those of the points names objects, but no point is in by it.
+func TestFormsBehindPoints(t *testing.T) {
+	this := func(subs ...string) api.Form {
+		f := api.Form{Kind: api.This}
+		for _, s := range subs {
+			f.Subs = append(f.Subs, worlds.Sub(s))
+		}
+		return f
+	}
+	both := api.Form{Kind: api.Both}
+	empty := api.Form{Kind: api.This, Subs: []api.Sub{{Obj: api.Obj{Type: "user"}}}}
+	for i, c := range []struct {
+		points int
+		forms  []api.Form
+		want   string
+	}{
+		{1, []api.Form{both, this("user:2", "user:10", "user:2", "user:3#x", "doc:4")}, "10 2"},
+		{1, []api.Form{both, both, {Kind: api.Union, Parts: []api.Form{this("user:1")}}}, "1"},
+		{1, []api.Form{both, {Subs: []api.Sub{worlds.Sub("user:1")}, Parts: []api.Form{this("user:2")}}}, "2"},
+		{1, []api.Form{both, {Kind: api.Same, Subs: []api.Sub{worlds.Sub("user:1")}}}, ""},
+		{1, []api.Form{{Kind: api.Union, Parts: []api.Form{both, this("user:1")}}, this("user:2")}, "1 2"},
+		{1, []api.Form{{Kind: api.Both, Parts: []api.Form{both, this("user:1")}}, this("user:2")}, "1"},
+		{1, []api.Form{{Kind: api.Same, Refs: []int{1}}, this("user:2")}, ""},
+		{1, []api.Form{this("user:1"), this("user:2")}, "1"},
+		{2, []api.Form{both, {Kind: api.Same, Refs: []int{0}}, this("user:2")}, "2,2"},
+		{3, []api.Form{both, this("user:2")}, "2,2,"},
+		{0, []api.Form{both, this("user:2")}, ""},
+	} {
+		sets := lookup.Sets(api.Graph{Points: make([]api.Point, c.points), Forms: c.forms}, "user")
+		var got []string
+		for _, s := range sets {
+			got = append(got, ids(s))
+		}
+		if len(sets) != c.points || strings.Join(got, ",") != c.want {
+			t.Errorf("%d: %v, want %q", i, sets, c.want)
+		}
+	}
+	sets := lookup.Sets(api.Graph{Points: make([]api.Point, 1), Forms: []api.Form{both, empty}}, "user")
+	if len(sets) != 1 || len(sets[0]) != 1 || sets[0][0] != empty.Subs[0].Obj {
+		t.Error("an empty ID:", sets)
+	}
+}
+
+// form is any form, with numbers from -1 to n.
+func form(d *worlds.Draw, n, deep int) api.Form {
+	f := api.Form{Kind: d.Next(7)}
+	for range d.Next(6) {
+		f.Subs = append(f.Subs, worlds.Subs()[d.Next(len(worlds.Subs()))])
+	}
+	for range d.Next(3) {
+		f.Refs = append(f.Refs, d.Next(n+2)-1)
+	}
+	for range d.Next(3) * min(deep, 1) {
+		f.Parts = append(f.Parts, form(d, n, deep-1))
+	}
+	return f
+}
+
+// names asks whether a This names an object.
+func names(f api.Form, o api.Obj) bool {
+	return f.Kind == api.This && slices.Contains(f.Subs, api.Sub{Obj: o}) || slices.ContainsFunc(f.Parts, func(p api.Form) bool { return names(p, o) })
+}
+
+// P30.1: any graphs, with fewer or more forms than points, against layer 27's least sets.
+func TestAnyGraphs(t *testing.T) {
+	told := 0
+	for seed := range worlds.Draw(3000) {
+		d := seed*29 + 5
+		n := d.Next(5)
+		g := api.Graph{Points: make([]api.Point, n)}
+		for range d.Next(9) {
+			g.Forms = append(g.Forms, form(&d, n, 2))
+		}
+		for _, typ := range types {
+			want := make([][]api.Obj, n)
+			for _, s := range worlds.Subs() {
+				if s.Rel != "" || s.Obj.Type != typ || !slices.ContainsFunc(g.Forms, func(f api.Form) bool { return names(f, s.Obj) }) {
+					continue
+				}
+				for i, round := range check.Solve(g, s) {
+					if round > 0 {
+						want[i] = append(want[i], s.Obj)
+						told++
+					}
+				}
+			}
+			got := lookup.Sets(g, typ)
+			if len(got) != n {
+				t.Fatalf("seed %d: %d points, want %d", seed, len(got), n)
+			}
+			for i := range got {
+				slices.SortFunc(want[i], func(a, b api.Obj) int { return strings.Compare(a.ID, b.ID) })
+				if !slices.Equal(got[i], want[i]) {
+					t.Fatalf("seed %d: the set of %d of %q: %v, want %v", seed, i, typ, got[i], want[i])
+				}
+			}
+		}
+	}
+	if told < 1000 {
+		t.Fatal("the graphs are too empty:", told)
+	}
+}
+
 // odd tells objects that no tuple names, and an error for a type.
 type odd struct {
 	facts.Facts

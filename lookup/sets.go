@@ -61,7 +61,7 @@ func all(f api.Form, typ string) set {
 type solver struct {
 	forms []api.Form
 	typ   string
-	every set // all objects of the type that the graph names
+	every set // all objects of the type that some This of the graph names
 	sets  []set
 	named [][]int // of each point, which points' forms name it
 	left  []int   // points that may grow
@@ -72,8 +72,11 @@ func newSolver(g api.Graph, typ string) *solver {
 	n := len(g.Points)
 	s := &solver{forms: make([]api.Form, n), typ: typ, every: set{}, sets: make([]set, n), named: make([][]int, n), waits: make([]bool, n)}
 	copy(s.forms, g.Forms)
-	for i, f := range s.forms {
+	// A This behind the points' forms names objects, too: a Both without Parts holds of them.
+	for _, f := range g.Forms {
 		s.every.join(all(f, typ))
+	}
+	for i, f := range s.forms {
 		s.note(i, f)
 		s.ask(i)
 	}
